@@ -1,0 +1,1 @@
+"""Facecounts: counts of the faces of closed nets."""

@@ -1,0 +1,17 @@
+"""What several modules ask of whatever is handed in."""
+
+
+def is_whole(thing):
+    """Tell whether a thing is a whole number."""
+    # Python counts truths among its ints, the document doesn't.
+    return isinstance(thing, int) and not isinstance(thing, bool)
+
+
+def is_whole_within(thing, low, high):
+    """Tell whether a thing is a whole number from low to high."""
+    return is_whole(thing) and low <= thing <= high
+
+
+def is_rising(things):
+    """Tell whether each of the things is greater than the one ahead."""
+    return all([low < high for low, high in zip(things, things[1:])])
