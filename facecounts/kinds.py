@@ -15,3 +15,8 @@ def is_whole_within(thing, low, high):
 def is_rising(things):
     """Tell whether each of the things is greater than the one ahead."""
     return all([low < high for low, high in zip(things, things[1:])])
+
+
+def is_whole_tuple(thing):
+    """Tell whether a thing is a tuple of whole numbers alone."""
+    return isinstance(thing, tuple) and all([is_whole(part) for part in thing])

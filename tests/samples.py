@@ -75,3 +75,62 @@ GREATER_NETS = (
     SIXTY, (SIX,), tuple(combinations(range(7), 6)), tuple(combinations(range(6), 3)), ((0, 15), (2, 10), (3,)),
     ((0, 1, 2), (0, 3), (3, 4, 5, 6), (7,)), tuple((point,) for point in range(16)),
 )
+
+# Things of which none is a whole number.
+NO_WHOLES = (True, False, None, "", "1", (), (1,), [], [1], {}, {1: 1}, 0.0, 1.0, b"1")
+
+# Things that stand at some place of a tuple in which whole numbers alone are due.
+NO_PARTS = (True, False, None, "", "1", (), (1,), [], [1], {}, 1.0)
+
+
+def swapped_in(numbers, thing):
+    """Tell all tuples that have the thing at one place, and else the numbers."""
+    return [numbers[:at] + (thing,) + numbers[at + 1:] for at in range(len(numbers))]
+
+
+def border_of(points):
+    """Tell the border of the net of one side of these points."""
+    return tuple(sorted(combinations(points, len(points) - 1)))
+
+
+def circle(*points):
+    """Tell the net of pairs that leads round through these points."""
+    return tuple(sorted(tuple(sorted(pair)) for pair in zip(points, points[1:] + points[:1])))
+
+
+def model_joined(*nets):
+    """Tell nets without a common point joined."""
+    sides = [()]
+    for net in nets:
+        sides = [side + more for side in sides for more in net]
+    return tuple(sorted(tuple(sorted(side)) for side in sides))
+
+
+BORDERS = tuple(border_of(tuple(range(size))) for size in range(1, 8))
+CIRCLES = tuple(circle(*range(size)) for size in range(3, 17)) + (circle(0, 7, 2, 15, 4), circle(3, 1, 9, 8, 5, 12))
+JOINED_BORDERS = (
+    model_joined(border_of((0, 1)), border_of((2, 3))),
+    model_joined(border_of((0, 1)), border_of((2, 3)), border_of((4, 5))),
+    model_joined(border_of((0, 15)), border_of((2, 9)), border_of((4, 5)), border_of((1, 3))),
+    model_joined(border_of((0, 1)), border_of((2, 3)), border_of((4, 5)), border_of((6, 7)), border_of((8, 9))),
+    model_joined(border_of((0, 1, 2)), border_of((3, 4))),
+    model_joined(border_of((0, 5, 10)), border_of((1, 2, 12))),
+    model_joined(border_of((0, 1, 2)), border_of((3, 4, 5)), border_of((6, 7, 8))),
+    model_joined(border_of((0, 1, 2, 3)), border_of((4, 5, 6))),
+    model_joined(border_of((0, 1, 2, 3)), border_of((4, 5, 6, 7))),
+    model_joined(border_of((0, 1, 2, 3, 4, 5)), border_of((7, 8))),
+)
+JOINED_CIRCLES = (
+    model_joined(circle(0, 1, 2, 3, 4), border_of((5, 6))),
+    model_joined(circle(0, 1, 2, 3, 4, 5), circle(6, 7, 8, 9, 10, 11, 12)),
+    model_joined(circle(0, 1, 2, 3), circle(6, 7, 8), border_of((9, 10))),
+)
+# Of even widths parts bear nothing on one another's balances, and that of () comes out right.
+CLOSED_IN_PARTS = (circle(0, 1, 2) + circle(3, 4, 5), circle(0, 1, 2) + circle(3, 4, 5, 6) + circle(7, 8, 9, 10, 11),
+                   border_of((0, 1, 2, 3, 4)) + border_of((5, 6, 7, 8, 9)))
+CLOSED_NETS = BORDERS + CIRCLES + JOINED_BORDERS + JOINED_CIRCLES + CLOSED_IN_PARTS
+
+UNLEVEL_NETS = (
+    ((0,), (1, 2)), ((0, 1), (2,)), ((0, 1, 2), (2, 3), (4,)), ((0, 1), (0, 2), (1, 2), (3,)), ((0, 15), (2, 10), (3,)),
+    ((0, 1, 2, 3, 4, 5), (0, 6)), ((0, 1), (0, 2), (1, 3, 4)), ((0,), (1,), (2, 3)),
+)

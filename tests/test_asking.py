@@ -1,11 +1,11 @@
-"""[2], of nets and texts: what is handed in and what is told."""
+"""[2]: what is handed in and what is told."""
 
 import copy
 import unittest
 
-from facecounts import nets, texts
+from facecounts import chosen, closed, nets, rows, texts
 from facecounts.errors import FaceError
-from facecounts.kinds import is_rising, is_whole, is_whole_within
+from facecounts.kinds import is_rising, is_whole, is_whole_tuple, is_whole_within
 from tests.samples import GREAT, NO_NETS, NOTHINGS, POINTLESS, SIXTY, TRIANGLE
 
 QUESTIONS = (
@@ -16,6 +16,19 @@ QUESTIONS = (
     (nets.faces, [[0, 1], [0, 2]], 1), (nets.faces, TRIANGLE, [1]), (nets.ring, TRIANGLE, [0]), (nets.ring, [[0]], [0]),
     (nets.without, TRIANGLE, [0]), (nets.joined, [[1]], [[0]]), (nets.joined, TRIANGLE, [[3], {}]),
     (nets.counts, [[2, 1], [0]]), (nets.tally, {"b": [1], "a": []}), (texts.written, [[1, 0]]), (texts.read, ["0", ["1"]]),
+    (rows.is_row, (1, 3, 3)), (rows.is_row, [1, [3], {"a": 3}]), (rows.turned, (1, 3, 3)), (rows.turned, [1, 3, 3]),
+    (rows.turned_back, (1, 1, 1)), (rows.turned_back, [1, 1]), (rows.is_even, (1, 3, 3)), (rows.is_even, [[1]]),
+    (rows.first_uneven, (1, 3, 2)), (rows.first_uneven, [1, 3, 2]), (rows.steps, (1, 5, 5)), (rows.steps, {"b": [], "a": 1}),
+    (rows.by_steps, 2, (1, 2)), (rows.by_steps, 2, [1, 2]), (rows.by_steps, [2], [1, 2]), (rows.by_half, 3, (1, 6)),
+    (rows.by_half, 3, [1, 6]), (rows.by_half, {2: 1}, [1]),
+    (closed.is_level, TRIANGLE), (closed.is_level, [[0, 1]]), (closed.is_closed, TRIANGLE), (closed.is_closed, [[1, 0]]),
+    (closed.balance, TRIANGLE, (0,)), (closed.balance, TRIANGLE, [0]), (closed.balance, [[0]], [0]),
+    (closed.first_open, TRIANGLE[1:]), (closed.first_open, [[2, 1], [0]]), (closed.border, TRIANGLE[1:]),
+    (closed.border, TRIANGLE), (closed.border, [[0, 1], [0]]),
+    (chosen.choose, 9, 3), (chosen.choose, [9], [3]), (chosen.writing, 28, 3), (chosen.writing, 28, [3]),
+    (chosen.writing, [2, 1], 3), (chosen.is_writing, (6, 4, 2), 28, 3), (chosen.is_writing, [6, 4, 2], 28, 3),
+    (chosen.is_writing, [[6], {"a": [4]}], [28], [3]), (chosen.most_above, 28, 3), (chosen.most_above, [28], 3),
+    (chosen.least_below, 28, 3), (chosen.least_below, 28, [3]), (chosen.bags_above, 28, 3), (chosen.bags_above, {}, []),
 )
 
 
@@ -62,12 +75,24 @@ class Asking(unittest.TestCase):
         self.assertIs(nets.is_net(told), False)
         self.assertIs(nets.is_net(tuple(told)), True)
         self.assertIs(nets.is_face(TRIANGLE, nets.faces(TRIANGLE, 1)), False)
+        there = rows.turned_back((10 ** 59,) * 12)
+        self.assertIs(rows.is_row(there), True)
+        self.assertEqual(rows.turned(there), (10 ** 59,) * 12)
+        self.assertIs(rows.is_row(chosen.writing(10 ** 12, 12)), True)
+        self.assertIs(chosen.is_writing(rows.turned(there), 10 ** 12, 12), False)
 
     def test_arguments_are_named_as_the_interface_names_them(self):
         for deed, names in (
             (nets.is_net, "thing"), (nets.is_face, "net thing"), (nets.faces, "net size"), (nets.counts, "net"),
             (nets.tally, "net"), (nets.ring, "net face"), (nets.without, "net point"), (nets.joined, "one other"),
             (texts.written, "net"), (texts.read, "text"),
+            (rows.is_row, "thing"), (rows.turned, "row"), (rows.turned_back, "row"), (rows.is_even, "row"),
+            (rows.first_uneven, "row"), (rows.steps, "row"), (rows.by_steps, "width numbers"),
+            (rows.by_half, "width numbers"),
+            (closed.is_level, "net"), (closed.is_closed, "net"), (closed.balance, "net face"),
+            (closed.first_open, "net"), (closed.border, "net"),
+            (chosen.choose, "things number"), (chosen.writing, "number size"), (chosen.is_writing, "thing number size"),
+            (chosen.most_above, "number size"), (chosen.least_below, "number size"), (chosen.bags_above, "number size"),
         ):
             code = deed.__code__
             self.assertEqual(code.co_varnames[:code.co_argcount], tuple(names.split()))
@@ -85,6 +110,12 @@ class Kinds(unittest.TestCase):
         self.assertEqual([number for number in range(-9, 9) if is_whole_within(number, -2, 1)], [-2, -1, 0, 1])
         for thing in NOTHINGS + NO_NETS:
             self.assertIs(is_whole_within(thing, 0, 6), False)
+
+    def test_tuples_of_whole_numbers(self):
+        for thing in ((), (0,), (-1, GREAT), tuple(range(2000))):
+            self.assertIs(is_whole_tuple(thing), True)
+        for thing in ([], [0], {0: 0}, "0", 0, None, True, (True,), (0, False), (None, 0), (0, (0,)), ("0",), (0, 1.0)):
+            self.assertIs(is_whole_tuple(thing), False)
 
     def test_rising(self):
         for things in ((), (3,), (1, 2), ((0,), (0, 1), (1,)), [(), (0,)]):

@@ -1,0 +1,88 @@
+"""[3], as far as it speaks of rows, of nets joined and of closed nets."""
+
+import unittest
+from itertools import combinations
+
+from facecounts.chosen import least_below, most_above
+from facecounts.closed import is_closed
+from facecounts.nets import counts, joined, ring
+from facecounts.rows import by_half, by_steps, is_even, steps, turned, turned_back
+from tests.samples import (
+    BORDERS, CIRCLES, CLOSED_NETS, GREAT, GREATER_NETS, JOINED_BORDERS, JOINED_CIRCLES, POINTLESS, SMALL_NETS,
+    model_faces, nets_on,
+)
+
+
+def each_with_each(one, other):
+    """Tell the row of all sums of products whose places come to its places."""
+    many = [0] * (len(one) + len(other) - 1)
+    for at, here in enumerate(one):
+        for more, there in enumerate(other):
+            many[at + more] += here * there
+    return tuple(many)
+
+
+class Together(unittest.TestCase):
+
+    def test_turned_and_turned_back_either_way_about(self):
+        rows = [tuple((seed * (at + 1) ** 3) % 97 - 48 for at in range(size)) for size in range(1, 13) for seed in range(40)]
+        rows += [tuple((-1) ** at * (GREAT - at) for at in range(size)) for size in range(1, 13)]
+        rows += [counts(net) for net in SMALL_NETS + list(GREATER_NETS + CLOSED_NETS)]
+        for row in rows:
+            self.assertEqual(turned_back(turned(row)), row)
+            self.assertEqual(turned(turned_back(row)), row)
+
+    def test_turned_again_and_again(self):
+        # What is told has more figures than what is handed in has, and may be handed in again.
+        row = there = (GREAT,) * 12
+        for deed in [turned_back] * 20 + [turned] * 40 + [turned_back] * 20:
+            there = deed(there)
+        self.assertEqual(there, row)
+
+    def test_counts_of_nets_joined(self):
+        shifted = [tuple(tuple(point + 9 for point in side) for side in net) for net in nets_on((0, 1, 2))]
+        for one in SMALL_NETS[::3] + list(BORDERS[:4] + CIRCLES[:3]):
+            for other in shifted:
+                told = counts(joined(one, other)) if len(one) * len(other) <= 60 else None
+                if told is not None:
+                    self.assertEqual(told, each_with_each(counts(one), counts(other)))
+                    # Turned they are so, too, which holds for no other way of turning.
+                    self.assertEqual(turned(told), each_with_each(turned(counts(one)), turned(counts(other))))
+
+    def test_counts_of_closed_nets(self):
+        for net in CLOSED_NETS:
+            row = counts(net)
+            width = len(row) - 1
+            self.assertIs(is_closed(net), True)
+            self.assertIs(is_even(row), True, net)
+            self.assertEqual(turned(row), turned(row)[::-1])
+            self.assertEqual(by_half(width, row[:width // 2 + 1]), row)
+            self.assertEqual(by_steps(width, steps(row)), row)
+
+    def test_counts_of_rings_of_closed_nets(self):
+        for net in BORDERS + JOINED_BORDERS + JOINED_CIRCLES:
+            for face in sorted(model_faces(net), key=sorted)[::4]:
+                self.assertIs(is_even(counts(ring(net, tuple(sorted(face))))), True)
+
+    def test_each_closed_net_of_few_points(self):
+        closed = [net for net in nets_on((0, 1, 2, 3)) if is_closed(net)]
+        # (), two of four points six times, four triangles, three squares, and all triples.
+        self.assertEqual(len(closed), 1 + 6 + 4 + 3 + 1)
+        for net in closed:
+            self.assertIs(is_even(counts(net)), True)
+        self.assertIn(POINTLESS, closed)
+
+    def test_no_counts_grow_by_more_than_is_told(self):
+        for net in SMALL_NETS + list(GREATER_NETS + CLOSED_NETS):
+            row = counts(net)
+            for size in range(1, len(row) - 1):
+                self.assertLessEqual(row[size + 1], most_above(row[size], size))
+                self.assertGreaterEqual(row[size], least_below(row[size + 1], size + 1))
+        for points in range(1, 7):
+            row = counts(tuple(combinations(range(7), points)))
+            for size in range(1, points):
+                self.assertEqual(row[size + 1], most_above(row[size], size))
+
+
+if __name__ == "__main__":
+    unittest.main()
