@@ -40,9 +40,7 @@ def first_uneven(row):
 
 def steps(row):
     """Tell by how much the turned row grows at each place up to half of its width."""
-    there = turned(row)
-    half = there[:half_size(len(row) - 1)]
-    return half[:1] + tuple([number - ahead for ahead, number in zip(half, half[1:])])
+    return growth(turned(row))
 
 
 def by_steps(width, numbers):
@@ -76,6 +74,12 @@ def check_half(width, numbers):
         raise NoNumber("a width from 0 to 11 is due")
     if not is_whole_tuple(numbers) or len(numbers) != half_size(width):
         raise NoRow("a tuple of one more whole numbers than half of the width is due")
+
+
+def growth(there):
+    """Tell the first number of a turned row, and by how much it grows at each place up to half of its width."""
+    half = there[:half_size(len(there) - 1)]
+    return half[:1] + tuple([number - ahead for ahead, number in zip(half, half[1:])])
 
 
 def half_size(width):

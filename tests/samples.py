@@ -1,6 +1,8 @@
 """What several tests need: things that are no nets, all small nets, and a plain model of nets."""
 
+import sys
 from itertools import combinations
+from random import Random
 
 from facecounts import errors
 
@@ -70,6 +72,18 @@ def nets_on(points):
     return [sides for sides in subsets(sorted(subsets(points))) if model_is_net(sides)]
 
 
+def from_behind(choice, numbers, size):
+    """Tell all tuples of this size of the numbers from 0 on, in order from behind."""
+    return sorted(choice(range(numbers), size), key=lambda one: one[::-1])
+
+
+def model_first_net(row):
+    """Tell the first net, by all faces in order from behind gone through."""
+    points = row[1] if len(row) > 1 else 0
+    found = [face for size, many in enumerate(row) for face in from_behind(combinations, points, size)[:many]]
+    return model_net({frozenset(face) for face in found})
+
+
 SMALL_NETS = nets_on((0, 1, 2, 3))
 GREATER_NETS = (
     SIXTY, (SIX,), tuple(combinations(range(7), 6)), tuple(combinations(range(6), 3)), ((0, 15), (2, 10), (3,)),
@@ -86,6 +100,35 @@ NO_PARTS = (True, False, None, "", "1", (), (1,), [], [1], {}, 1.0)
 def swapped_in(numbers, thing):
     """Tell all tuples that have the thing at one place, and else the numbers."""
     return [numbers[:at] + (thing,) + numbers[at + 1:] for at in range(len(numbers))]
+
+
+NO_ROWS = NOTHINGS + (
+    (), tuple(range(13)), (0,) * 13, (1,) * 200, [1], [1, 3, 3], ["1"], "(1, 3, 3)", {1: 3}, {0: 1, 1: 3}, ((1, 3, 3),),
+    (1, (3,)), ([1], 3), 7, 0, GREAT, 1.0, b"1",
+) + tuple(
+    broken for numbers in ((1,), (1, 3), (1, 3, 3), tuple(range(12))) for thing in NO_PARTS
+    for broken in swapped_in(numbers, thing)
+)
+
+
+def rows_taken(deed, things, most=20000):
+    """Tell how many rows of the program a question takes, and fail beyond the most: what is gone through takes more."""
+    taken = 0
+
+    def count(frame, event, argument):
+        nonlocal taken
+        taken += event == "line"
+        if taken > most:
+            raise AssertionError(f"{deed.__name__}{things!r} takes too many rows")
+        return count
+
+    before = sys.gettrace()
+    sys.settrace(count)
+    try:
+        deed(*things)
+    finally:
+        sys.settrace(before)
+    return taken
 
 
 def border_of(points):
@@ -134,3 +177,49 @@ UNLEVEL_NETS = (
     ((0,), (1, 2)), ((0, 1), (2,)), ((0, 1, 2), (2, 3), (4,)), ((0, 1), (0, 2), (1, 2), (3,)), ((0, 15), (2, 10), (3,)),
     ((0, 1, 2, 3, 4, 5), (0, 6)), ((0, 1), (0, 2), (1, 3, 4)), ((0,), (1,), (2, 3)),
 )
+
+
+def without_one(things):
+    """Tell what is left of a tuple when any one of its things is left out."""
+    return [things[:at] + things[at + 1:] for at in range(len(things))]
+
+
+def crowd_of(bags):
+    """Tell the rising tuple of all that is left of the bags when any numbers of them are left out."""
+    return tuple(sorted({part for bag in bags for part in subsets(bag)}))
+
+
+def model_is_bag(thing):
+    if thing.__class__ is not tuple or any(part.__class__ is not int for part in thing):
+        return False
+    return len(thing) <= 6 and thing == tuple(sorted(thing)) and set(thing) <= set(range(16))
+
+
+def model_is_crowd(thing):
+    """Tell whether a thing is a crowd, by the words of the point."""
+    if thing.__class__ is not tuple or not 1 <= len(thing) <= 200 or not all(model_is_bag(bag) for bag in thing):
+        return False
+    found = set(thing)
+    return list(thing) == sorted(found) and all(part in found for bag in thing for part in without_one(bag))
+
+
+def model_counts_of_bags(crowd):
+    sizes = [len(bag) for bag in crowd]
+    return tuple(sizes.count(size) for size in range(max(sizes) + 1))
+
+
+def grown_crowd(many, numbers, seed):
+    """Tell some crowd of so many bags of these numbers, the same one for the same seed."""
+    chance = Random(seed)
+    found = {(): True}
+    grown = [()]
+    while len(grown) < many:
+        bag = tuple(sorted(chance.choice(grown) + (chance.choice(numbers),)))
+        if len(bag) <= 6 and bag not in found and all(part in found for part in without_one(bag)):
+            found[bag] = True
+            grown.append(bag)
+    return tuple(sorted(grown))
+
+
+CROWDS = tuple(grown_crowd(many, ((0, 1, 2, 3), (0, 4, 5, 15), tuple(range(16)))[many % 3], many) for many in range(1, 201))
+FULL_CROWD = CROWDS[-1]

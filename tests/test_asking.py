@@ -3,7 +3,7 @@
 import copy
 import unittest
 
-from facecounts import chosen, closed, nets, rows, texts
+from facecounts import chosen, closed, crowds, firsts, made, nets, rows, texts
 from facecounts.errors import FaceError
 from facecounts.kinds import is_rising, is_whole, is_whole_tuple, is_whole_within
 from tests.samples import GREAT, NO_NETS, NOTHINGS, POINTLESS, SIXTY, TRIANGLE
@@ -29,6 +29,15 @@ QUESTIONS = (
     (chosen.writing, [2, 1], 3), (chosen.is_writing, (6, 4, 2), 28, 3), (chosen.is_writing, [6, 4, 2], 28, 3),
     (chosen.is_writing, [[6], {"a": [4]}], [28], [3]), (chosen.most_above, 28, 3), (chosen.most_above, [28], 3),
     (chosen.least_below, 28, 3), (chosen.least_below, 28, [3]), (chosen.bags_above, 28, 3), (chosen.bags_above, {}, []),
+    (crowds.is_crowd, ((), (0,), (1,))), (crowds.is_crowd, [[], [0]]), (crowds.is_crowd, ((), [0], {"b": 1, "a": [2]})),
+    (crowds.crowd_counts, ((), (0,), (1,))), (crowds.crowd_counts, [[1, 0], []]), (crowds.not_of_net, (1, 3, 4)),
+    (crowds.not_of_net, [1, 3, 4]), (crowds.not_of_crowd, (1, 3, 7)), (crowds.not_of_crowd, {"b": [1], "a": 2}),
+    (firsts.first_net, (1, 4, 4, 1)), (firsts.first_net, [1, [4]]), (firsts.first_net, (1, 3, 9)), (firsts.first_net, (1, 99)),
+    (firsts.first_crowd, (1, 3, 4)), (firsts.first_crowd, [[1], 3]), (firsts.first_crowd, (1, 1, 2)),
+    (firsts.first_crowd, (1, 99)), (made.barred, (1, 6, 12, 8)), (made.barred, (1, 3, 2)), (made.barred, [1, [3], 2]),
+    (made.least_row, 4, 8), (made.least_row, [4], 8), (made.greatest_row, 4, 8), (made.greatest_row, 4, [8]),
+    (made.all_rows, 6, 10), (made.all_rows, [6], {"b": 1, "a": 2}), (made.filling, 4, (1, 3, 2)), (made.filling, 4, [1, 3, 2]),
+    (made.filling, [4], [1, 3]), (made.made, 4, (1, 3, 2)), (made.made, 4, [[3], 1]), (made.made, 4, (1, 12, 12)),
 )
 
 
@@ -93,6 +102,10 @@ class Asking(unittest.TestCase):
             (closed.first_open, "net"), (closed.border, "net"),
             (chosen.choose, "things number"), (chosen.writing, "number size"), (chosen.is_writing, "thing number size"),
             (chosen.most_above, "number size"), (chosen.least_below, "number size"), (chosen.bags_above, "number size"),
+            (crowds.is_crowd, "thing"), (crowds.crowd_counts, "crowd"), (crowds.not_of_net, "row"),
+            (crowds.not_of_crowd, "row"), (firsts.first_net, "row"), (firsts.first_crowd, "row"), (made.barred, "row"),
+            (made.least_row, "width points"), (made.greatest_row, "width points"), (made.all_rows, "width points"),
+            (made.filling, "width steps"), (made.made, "width steps"),
         ):
             code = deed.__code__
             self.assertEqual(code.co_varnames[:code.co_argcount], tuple(names.split()))

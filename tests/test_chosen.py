@@ -1,19 +1,16 @@
 """[14], [15]: ways to choose, writings, and how many there are above and below."""
 
-import sys
 import unittest
 from itertools import combinations, combinations_with_replacement
 from math import comb
 
 from facecounts.chosen import bags_above, choose, is_writing, least_below, most_above, writing
-from tests.samples import GREAT, NO_PARTS, NO_WHOLES, NOTHINGS, check_refused, swapped_in
+from tests.samples import GREAT, NO_PARTS, NO_WHOLES, NOTHINGS, check_refused, rows_taken, swapped_in, without_one
 
 MOST = 10 ** 12
 GREAT_NUMBERS = (MOST, MOST - 1, MOST // 3, 10 ** 9 + 7, 2 ** 39, comb(58, 12), comb(58, 12) - 1, comb(58, 12) + 1)
 NO_NUMBERS = NOTHINGS + NO_WHOLES + (-1, MOST + 1, GREAT, -GREAT)
 NO_SIZES = NOTHINGS + NO_WHOLES + (0, -1, 13, 14, GREAT, -GREAT)
-# How many rows of the program one question may take: going through numbers would take far more.
-MOST_ROWS = 20000
 
 
 def is_due(numbers, number, size):
@@ -35,26 +32,6 @@ def falling(high, size):
         if size > 1:
             found += [(first,) + rest for rest in falling(first, size - 1)]
     return found
-
-
-def rows_taken(deed, things):
-    """Tell how many rows of the program a question takes, up to somewhat more than MOST_ROWS."""
-    taken = 0
-
-    def count(frame, event, argument):
-        nonlocal taken
-        taken += event == "line"
-        if taken > MOST_ROWS:
-            raise AssertionError(f"{deed.__name__}{things!r} takes too many rows")
-        return count
-
-    before = sys.gettrace()
-    sys.settrace(count)
-    try:
-        deed(*things)
-    finally:
-        sys.settrace(before)
-    return taken
 
 
 class Choose(unittest.TestCase):
@@ -218,11 +195,6 @@ class Above(unittest.TestCase):
             for thing in NO_SIZES:
                 for number in (0, 1, 9, MOST, MOST + 1):
                     check_refused(self, "NoNumber", deed, number, thing)
-
-
-def without_one(things):
-    """Tell what is left of a tuple when any one of its things is left out."""
-    return [things[:at] + things[at + 1:] for at in range(len(things))]
 
 
 def most_over(here, above):

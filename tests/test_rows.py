@@ -5,16 +5,9 @@ from itertools import product
 from math import comb
 
 from facecounts.rows import by_half, by_steps, first_uneven, is_even, is_row, steps, turned, turned_back
-from tests.samples import GREAT, NO_PARTS, NO_WHOLES, NOTHINGS, check_refused, swapped_in
+from tests.samples import GREAT, NO_PARTS, NO_ROWS, NO_WHOLES, NOTHINGS, check_refused, swapped_in
 
 MANY_FIGURES = (GREAT, -GREAT, GREAT - 1, 7 - GREAT, 10 * GREAT - 1, 1 - 10 * GREAT)
-NO_ROWS = NOTHINGS + (
-    (), tuple(range(13)), (0,) * 13, (1,) * 200, [1], [1, 3, 3], ["1"], "(1, 3, 3)", {1: 3}, {0: 1, 1: 3}, ((1, 3, 3),),
-    (1, (3,)), ([1], 3), 7, 0, GREAT, 1.0, b"1",
-) + tuple(
-    broken for numbers in ((1,), (1, 3), (1, 3, 3), tuple(range(12))) for thing in NO_PARTS
-    for broken in swapped_in(numbers, thing)
-)
 ROWS = tuple(product(range(-2, 3), repeat=1)) + tuple(product(range(-2, 3), repeat=2)) + tuple(
     product(range(-2, 3), repeat=3)) + tuple(product((-1, 0, 2), repeat=4)) + tuple(
     tuple((seed * seed + 31 * at * at * seed) % 61 - 30 for at in range(size))

@@ -1,15 +1,20 @@
-"""[3], as far as it speaks of rows, of nets joined and of closed nets."""
+"""[3]: what is told hangs together."""
 
 import unittest
 from itertools import combinations
 
-from facecounts.chosen import least_below, most_above
+from facecounts.chosen import bags_above, least_below, most_above
 from facecounts.closed import is_closed
+from facecounts.crowds import crowd_counts, not_of_crowd, not_of_net
+from facecounts.errors import TooMany
+from facecounts.firsts import first_crowd, first_net
+from facecounts.made import all_rows, barred, greatest_row, least_row, made
 from facecounts.nets import counts, joined, ring
 from facecounts.rows import by_half, by_steps, is_even, steps, turned, turned_back
+from facecounts.texts import read, written
 from tests.samples import (
-    BORDERS, CIRCLES, CLOSED_NETS, GREAT, GREATER_NETS, JOINED_BORDERS, JOINED_CIRCLES, POINTLESS, SMALL_NETS,
-    model_faces, nets_on,
+    BORDERS, CIRCLES, CLOSED_NETS, CROWDS, GREAT, GREATER_NETS, JOINED_BORDERS, JOINED_CIRCLES, POINTLESS, SMALL_NETS,
+    model_faces, model_first_net, nets_on,
 )
 
 
@@ -82,6 +87,62 @@ class Together(unittest.TestCase):
             row = counts(tuple(combinations(range(7), points)))
             for size in range(1, points):
                 self.assertEqual(row[size + 1], most_above(row[size], size))
+
+    def test_no_counts_of_crowds_grow_by_more_than_is_told(self):
+        for crowd in CROWDS:
+            row = crowd_counts(crowd)
+            self.assertIs(not_of_crowd(row), None)
+            for size in range(1, len(row) - 1):
+                self.assertLessEqual(row[size + 1], bags_above(row[size], size))
+
+    def test_the_first_net_of_a_nets_counts(self):
+        made_ones = 0
+        for net in SMALL_NETS + list(GREATER_NETS + CLOSED_NETS):
+            row = counts(net)
+            self.assertIs(not_of_net(row), None)
+            try:
+                first = first_net(row)
+            except TooMany:
+                # The first one may have more sides than the net itself.
+                self.assertGreater(len(model_first_net(row)), 60)
+                continue
+            made_ones += 1
+            self.assertEqual(counts(first), row)
+            self.assertEqual(first_net(counts(first)), first)
+        self.assertGreater(made_ones, 190)
+
+    def test_the_first_crowd_of_a_crowds_counts(self):
+        for crowd in CROWDS:
+            first = first_crowd(crowd_counts(crowd))
+            self.assertEqual(crowd_counts(first), crowd_counts(crowd))
+            self.assertEqual(first_crowd(crowd_counts(first)), first)
+
+    def test_first_ones_grow_by_just_so_much(self):
+        for points in range(1, 8):
+            row = [1, points]
+            while len(row) < 7:
+                row.append(most_above(row[-1], len(row) - 1))
+            self.assertEqual(counts(first_net(tuple(row))), tuple(number for number in row if number))
+        for numbers, size in ((1, 7), (2, 7), (3, 7), (4, 6), (5, 5), (6, 4), (16, 3)):
+            row = [1, numbers]
+            while len(row) < size:
+                row.append(bags_above(row[-1], len(row) - 1))
+            self.assertEqual(crowd_counts(first_crowd(tuple(row))), tuple(row))
+
+    def test_a_net_made_of_steps_has_them(self):
+        for width in range(2, 6):
+            for points in range(width + 1, width + 5):
+                rows = all_rows(width, points)
+                for row in rows:
+                    net = made(width, steps(row))
+                    self.assertIs(is_closed(net), True)
+                    self.assertEqual(read(written(net)), net)
+                    self.assertEqual(counts(net), row)
+                    self.assertEqual(steps(counts(net)), steps(row))
+                    self.assertIn(counts(net), rows)
+                    self.assertIs(barred(counts(net)), None)
+                    for low, here, high in zip(least_row(width, points), row, greatest_row(width, points)):
+                        self.assertTrue(low <= here <= high)
 
 
 if __name__ == "__main__":
