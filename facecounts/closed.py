@@ -1,6 +1,6 @@
 """Level nets and closed ones, the balance of faces, and borders."""
 
-from facecounts.errors import NoFace, NotLevel, TooMany
+from facecounts.errors import NoFace, NotClosed, NotLevel, TooMany
 from facecounts.nets import MOST_SIDES, all_faces, check_net, has_face, left_of, parts_of, width_of
 
 
@@ -41,6 +41,12 @@ def border(net):
     if len(outer) > MOST_SIDES:
         raise TooMany("the border would have more than sixty sides")
     return tuple(outer) if outer else None
+
+
+def check_closed(thing):
+    """Refuse what is no net, then what is no closed one."""
+    if not is_closed(thing):
+        raise NotClosed("a closed net is due")
 
 
 def has_one_size(net):

@@ -52,8 +52,7 @@ def ring(net, face):
     check_net(net)
     if not has_face(net, face):
         raise NoFace("a face of the net is due")
-    # None of these lies in another one, or its side would lie in the other's.
-    return tuple(sorted([left_of(side, face) for side in net if lies_in(face, side)]))
+    return ring_of(net, face)
 
 
 def without(net, point):
@@ -113,6 +112,12 @@ def lies_in(inner, outer):
 def has_face(net, thing):
     """Tell whether a thing is a face of what is known to be a net."""
     return is_any_face(thing) and any([lies_in(thing, side) for side in net])
+
+
+def ring_of(net, face):
+    """Tell the ring of what is known to be a face of a net."""
+    # None of these lies in another one, or its side would lie in the other's.
+    return tuple(sorted([left_of(side, face) for side in net if lies_in(face, side)]))
 
 
 def all_faces(net):

@@ -1,6 +1,7 @@
 """What several tests need: things that are no nets, all small nets, and a plain model of nets."""
 
 import sys
+from functools import lru_cache
 from itertools import combinations
 from random import Random
 
@@ -50,9 +51,10 @@ def subsets(things):
     return [part for size in range(len(things) + 1) for part in combinations(things, size)]
 
 
+@lru_cache(maxsize=None)
 def model_faces(net):
     """Tell the set of all faces of a net, each as a frozenset."""
-    return {frozenset(part) for side in net for part in subsets(side)}
+    return frozenset(frozenset(part) for side in net for part in subsets(side))
 
 
 def model_net(found):
@@ -221,5 +223,75 @@ def grown_crowd(many, numbers, seed):
     return tuple(sorted(grown))
 
 
-CROWDS = tuple(grown_crowd(many, ((0, 1, 2, 3), (0, 4, 5, 15), tuple(range(16)))[many % 3], many) for many in range(1, 201))
+CROWDS = tuple(
+    grown_crowd(many, ((0, 1, 2, 3), (0, 4, 5, 15), tuple(range(16)))[many % 3], many) for many in range(1, 201))
 FULL_CROWD = CROWDS[-1]
+
+
+def model_ring(found, face):
+    """Tell the set of all faces round a face, of the set of all faces of a net."""
+    return {other - face for other in found if face <= other}
+
+
+def proper_parts(points):
+    """Tell the set of all faces that lie in these points, but themselves."""
+    return {frozenset(part) for part in subsets(points) if len(part) < len(points)}
+
+
+def model_is_swap(net, out, into):
+    """Tell whether two tuples of points are a swap of a closed net, by the words of the point."""
+    found = model_faces(net)
+    width = max(len(side) for side in net)
+    points = {point for side in net for point in side}
+    if width == 0 or set(out) & set(into) or len(out) + len(into) != width + 1 or out == ():
+        return False
+    if frozenset(out) not in found or frozenset(into) in found or not set(into) <= set(range(16)):
+        return False
+    if len(into) == 1 and into[0] != min(number for number in range(17) if number not in points):
+        return False
+    return model_ring(found, frozenset(out)) == proper_parts(into)
+
+
+@lru_cache(maxsize=None)
+def model_swaps(net):
+    """Tell all swaps of a closed net: whatever comes has the points of the ring, or is a number that is no point."""
+    found = model_faces(net)
+    points = {point for side in net for point in side}
+    told = []
+    for out in sorted(tuple(sorted(face)) for face in found if face):
+        inner = model_ring(found, frozenset(out))
+        into = tuple(sorted({point for face in inner for point in face}))
+        free = [(number,) for number in range(16) if number not in points]
+        told += [(out, other) for other in [into] + free[:1] if model_is_swap(net, out, other)]
+    return tuple(told)
+
+
+def model_swapped(net, swap):
+    """Tell the net that has all faces but those in which out lies, and all that lie in into and some points of out."""
+    out, into = frozenset(swap[0]), frozenset(swap[1])
+    kept = {face for face in model_faces(net) if not out <= face}
+    return model_net(kept | {into | part for part in proper_parts(swap[0])} | proper_parts(swap[1]))
+
+
+def walk(net, seed, many):
+    """Tell the nets that so many swaps lead through, the same ones for the same seed."""
+    chance = Random(seed)
+    found = [net]
+    for _ in range(many):
+        some = [swap for swap in model_swaps(net) if len(net) + len(swap[0]) - len(swap[1]) <= 60]
+        # Those of few points in out lead to few sides again: of each size as many are to come.
+        size = chance.choice(sorted({len(swap[0]) for swap in some}))
+        net = model_swapped(net, chance.choice([swap for swap in some if len(swap[0]) == size]))
+        found.append(net)
+    return found
+
+
+def renamed(net, seed):
+    """Tell the net with its points called otherwise, the same one for the same seed."""
+    names = Random(seed).sample(range(16), 16)
+    return tuple(sorted(tuple(sorted(names[point] for point in side)) for side in net))
+
+
+WALKS = tuple(
+    net for width, many in ((1, 4), (2, 12), (3, 16), (4, 16), (5, 14), (6, 6))
+    for net in walk(renamed(border_of(tuple(range(width + 1))), width), 7 * width, many))

@@ -3,7 +3,7 @@
 import copy
 import unittest
 
-from facecounts import chosen, closed, crowds, firsts, made, nets, rows, texts
+from facecounts import bench, chosen, closed, crowds, desk, firsts, made, nets, rows, stacks, swaps, texts
 from facecounts.errors import FaceError
 from facecounts.kinds import is_rising, is_whole, is_whole_tuple, is_whole_within
 from tests.samples import GREAT, NO_NETS, NOTHINGS, POINTLESS, SIXTY, TRIANGLE
@@ -38,6 +38,11 @@ QUESTIONS = (
     (made.least_row, 4, 8), (made.least_row, [4], 8), (made.greatest_row, 4, 8), (made.greatest_row, 4, [8]),
     (made.all_rows, 6, 10), (made.all_rows, [6], {"b": 1, "a": 2}), (made.filling, 4, (1, 3, 2)), (made.filling, 4, [1, 3, 2]),
     (made.filling, [4], [1, 3]), (made.made, 4, (1, 3, 2)), (made.made, 4, [[3], 1]), (made.made, 4, (1, 12, 12)),
+    (swaps.swaps, TRIANGLE), (swaps.swaps, [[0, 1], [1]]), (swaps.swaps, TRIANGLE[1:]), (swaps.is_swap, TRIANGLE, ((0, 1), (3,))),
+    (swaps.is_swap, TRIANGLE, [[0, 1], [3]]), (swaps.is_swap, TRIANGLE, ((0, 1), [3], {"b": 1, "a": [2]})),
+    (swaps.is_swap, [[1], [0]], [[1]]), (swaps.swapped, TRIANGLE, ((0, 1), (3,))), (swaps.swapped, TRIANGLE, [[0, 1], [3]]),
+    (swaps.swapped, [[0]], [[0], [3]]), (swaps.change_by, 4, 2), (swaps.change_by, [4], 2), (swaps.change_by, 4, [2]),
+    (stacks.stacked, 3, (0, 5)), (stacks.stacked, 3, [0, 5]), (stacks.stacked, [3], [0]), (stacks.stacked, 3, (0, 6)),
 )
 
 
@@ -72,6 +77,16 @@ class Asking(unittest.TestCase):
             self.assertEqual(kept, told_first)
             self.assertEqual(nets.faces(TRIANGLE, size), told_first)
 
+    def test_no_list_is_told_twice(self):
+        for deed, *things in ((nets.faces, SIXTY, 2), (made.all_rows, 6, 10), (made.all_rows, 2, 3), (swaps.swaps, TRIANGLE),
+                              (swaps.swaps, POINTLESS), (nets.faces, TRIANGLE, 6)):
+            told = [deed(*things) for _ in range(4)]
+            self.assertEqual(len({id(one) for one in told}), 4)
+            kept = list(told[0])
+            told[1].append(None)
+            told[2].clear()
+            self.assertEqual((told[0], told[3], deed(*things)), (kept, kept, kept))
+
     def test_nothing_hangs_on_what_was_handed_in(self):
         thing = [(0, 1)]
         self.assertIs(nets.is_net(thing), False)
@@ -105,7 +120,11 @@ class Asking(unittest.TestCase):
             (crowds.is_crowd, "thing"), (crowds.crowd_counts, "crowd"), (crowds.not_of_net, "row"),
             (crowds.not_of_crowd, "row"), (firsts.first_net, "row"), (firsts.first_crowd, "row"), (made.barred, "row"),
             (made.least_row, "width points"), (made.greatest_row, "width points"), (made.all_rows, "width points"),
-            (made.filling, "width steps"), (made.made, "width steps"),
+            (made.filling, "width steps"), (made.made, "width steps"), (swaps.swaps, "net"), (swaps.is_swap, "net thing"),
+            (swaps.swapped, "net swap"), (swaps.change_by, "width size"), (stacks.stacked, "width places"),
+            (bench.Bench.lay, "self net"), (bench.Bench.swap, "self swap"), (bench.Bench.join, "self net"),
+            (bench.Bench.undo, "self"), (bench.Bench.net, "self"), (desk.Desk.say, "self row"), (bench.Bench.__init__, "self"),
+            (desk.Desk.__init__, "self"),
         ):
             code = deed.__code__
             self.assertEqual(code.co_varnames[:code.co_argcount], tuple(names.split()))

@@ -157,6 +157,40 @@ class Language(unittest.TestCase):
             if isinstance(call.func, ast.Attribute):
                 self.assertIn(call.func.attr, METHODS | set(own), (name, call.lineno))
 
+    def test_classes(self):
+        methods, values = set(), set()
+        for name, each in self.each_node(ast.ClassDef):
+            self.assertLessEqual(len(each.bases), 1, name)
+            for node in each.body:
+                words = isinstance(node, ast.Expr) and isinstance(node.value, ast.Constant)
+                self.assertTrue(words or isinstance(node, ast.FunctionDef), (name, node.lineno))
+            methods.update(node.name for node in each.body if isinstance(node, ast.FunctionDef))
+        for name, node in self.each_node(ast.Attribute):
+            if isinstance(node.ctx, ast.Store):
+                values.add(node.attr)
+                self.assertEqual(getattr(node.value, "id", ""), "self", (name, node.lineno))
+        self.assertEqual(methods & values, set())
+        self.assertEqual(values & METHODS, set())
+
+    def test_what_a_top_keeps(self):
+        for file in FILES:
+            above = []
+            for node in tree_of(file).body:
+                if isinstance(node, ast.FunctionDef):
+                    above.append(node.name)
+                elif isinstance(node, ast.Assign):
+                    for part in ast.walk(node.value):
+                        plain = isinstance(part, (ast.Constant, ast.Tuple, ast.List, ast.Dict, ast.Load))
+                        self.assertTrue(plain or part.id in above, (file.name, node.lineno))
+
+    def test_keywords_and_handlers(self):
+        own = ("key", "reverse", "default", "start", "strict")
+        for name, call in self.each_node(ast.Call):
+            self.assertTrue(all(word.arg in own for word in call.keywords), (name, call.lineno))
+        for name, handler in self.each_node(ast.ExceptHandler):
+            self.assertIsInstance(handler.type, ast.Name, (name, handler.lineno))
+            self.assertRegex(handler.type.id, r"\ANo[A-Z]|\ATooMany\Z", (name, handler.lineno))
+
     def test_is_stands_beside_none_and_truths_alone(self):
         for name, node in self.each_node(ast.Compare):
             for sign, right in zip(node.ops, node.comparators):

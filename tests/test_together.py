@@ -11,9 +11,11 @@ from facecounts.firsts import first_crowd, first_net
 from facecounts.made import all_rows, barred, greatest_row, least_row, made
 from facecounts.nets import counts, joined, ring
 from facecounts.rows import by_half, by_steps, is_even, steps, turned, turned_back
+from facecounts.stacks import stacked
+from facecounts.swaps import change_by, swapped, swaps
 from facecounts.texts import read, written
 from tests.samples import (
-    BORDERS, CIRCLES, CLOSED_NETS, CROWDS, GREAT, GREATER_NETS, JOINED_BORDERS, JOINED_CIRCLES, POINTLESS, SMALL_NETS,
+    BORDERS, CIRCLES, CLOSED_NETS, CROWDS, GREAT, GREATER_NETS, JOINED_BORDERS, JOINED_CIRCLES, POINTLESS, SMALL_NETS, WALKS,
     model_faces, model_first_net, nets_on,
 )
 
@@ -68,6 +70,31 @@ class Together(unittest.TestCase):
         for net in BORDERS + JOINED_BORDERS + JOINED_CIRCLES:
             for face in sorted(model_faces(net), key=sorted)[::4]:
                 self.assertIs(is_even(counts(ring(net, tuple(sorted(face))))), True)
+
+    def test_rings_of_closed_nets_are_closed(self):
+        for net in CLOSED_NETS + WALKS:
+            for face in sorted(model_faces(net), key=sorted)[::7]:
+                inner = ring(net, tuple(sorted(face)))
+                self.assertIs(is_closed(inner), True, (net, face))
+                self.assertEqual(len(inner[0]), len(net[0]) - len(face))
+
+    def test_a_swap_changes_the_counts_as_told_ahead(self):
+        for net in WALKS + JOINED_BORDERS + JOINED_CIRCLES:
+            width = len(net[0])
+            for swap in swaps(net)[::6]:
+                if width <= 5 and len(net) + len(swap[0]) - len(swap[1]) <= 60:
+                    ahead = change_by(width, len(swap[1]))
+                    due = tuple(number + more for number, more in zip(counts(net), ahead))
+                    self.assertEqual(counts(swapped(net, swap)), due)
+                    self.assertIs(is_even(ahead), True)
+
+    def test_stacked_nets_are_closed_and_have_the_least_counts(self):
+        for width in range(1, 6):
+            for places in ((), (0,), (1, 1), (width, 0, width), (1, 0, 1), (0,) * 10):
+                net = stacked(width, places)
+                self.assertIs(is_closed(net), True)
+                if width > 1 and len(places) <= 3:
+                    self.assertEqual(counts(net), least_row(width, width + 1 + len(places)))
 
     def test_each_closed_net_of_few_points(self):
         closed = [net for net in nets_on((0, 1, 2, 3)) if is_closed(net)]
